@@ -1,0 +1,1 @@
+"""Programs over things of which only a shape is known."""
