@@ -1,0 +1,50 @@
+"""Worlds: looked at, and asked for what they give."""
+
+from shapefree.errors import NoWorld
+from shapefree.words import is_whole
+
+
+def look_world(shape, world):
+    """True where it is a world of the shape, else NoWorld; it may be anything."""
+    if not isinstance(world, tuple) or len(world) != 3 or not is_whole(world[0]) or world[0] < 1:
+        raise NoWorld("form")
+    if not are_things(world[1], len(shape[0]), world[0]):
+        raise NoWorld("fixed")
+    if not are_tables(world[2], shape[1], world[0]):
+        raise NoWorld("deed")
+    return True
+
+
+def are_things(thing, many, n):
+    """Whether it is a tuple of so many things, of a world that has n."""
+    if not isinstance(thing, tuple) or len(thing) != many:
+        return False
+    return all([is_whole(one) and 0 <= one < n for one in thing])
+
+
+def are_tables(thing, deeds, n):
+    if not isinstance(thing, tuple) or len(thing) != len(deeds):
+        return False
+    return all([is_table(one, deed[1], n) for one, deed in zip(thing, deeds)])
+
+
+def is_table(thing, many, n):
+    """Whether it is a table of a deed with so many places."""
+    if many == 1:
+        return are_things(thing, n, n)
+    if not isinstance(thing, tuple) or len(thing) != n:
+        return False
+    return all([are_things(row, n, n) for row in thing])
+
+
+def done(shape, world, d, things):
+    """What a deed, done on things, leads to in a world."""
+    told = world[2][[deed[0] for deed in shape[1]].index(d)]
+    for thing in things:
+        told = told[thing]
+    return told
+
+
+def fixed_in(shape, world, c):
+    """The thing that a fixed thing is in a world."""
+    return world[1][shape[0].index(c)]
