@@ -2,7 +2,7 @@
 
 from shapefree.errors import NoName, Twice, WrongCount
 from shapefree.numbers import is_number
-from shapefree.terms import parts_in
+from shapefree.terms import bound_parts
 
 
 def look(shape, program):
@@ -38,24 +38,18 @@ def look_term(shape, ahead, term, pairs):
     while waiting:
         entry = waiting.pop()
         look_part(shape, ahead, entry[0], entry[1])
-        waiting.extend(list(reversed(bound_parts(entry[0], entry[1]))))
+        inner = [(part, widened(entry[1], bound)) for part, bound in bound_parts(entry[0])]
+        waiting.extend(list(reversed(inner)))
 
 
 def widened(bound, pairs):
+    """What is bound, and the pairs too; nothing is copied where there are none."""
+    if not pairs:
+        return bound
     wider = dict(bound)
     for pair in pairs:
         wider[pair] = True
     return wider
-
-
-def bound_parts(term, bound):
-    """The parts right in a term, each with what is bound around it."""
-    told = [(part, bound) for part in parts_in(term)]
-    if term[0] == "let":
-        told[1] = (term[3], widened(bound, [(term[1], "thing")]))
-    if term[0] == "loop":
-        told[2] = (term[5], widened(bound, [(term[3], "thing"), (term[1], "number")]))
-    return told
 
 
 def look_part(shape, ahead, part, bound):

@@ -32,6 +32,16 @@ def with_parts(term, inner):
     return term
 
 
+def bound_parts(term):
+    """The parts right in a term, each with the pairs (name, sort) that the term binds in it."""
+    told = [(part, ()) for part in parts_in(term)]
+    if term[0] == "let":
+        told[1] = (term[3], ((term[1], "thing"),))
+    if term[0] == "loop":
+        told[2] = (term[5], ((term[3], "thing"), (term[1], "number")))
+    return told
+
+
 def placed_parts(term):
     """All pairs (place, part), in the order of the places."""
     told = []
