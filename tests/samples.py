@@ -3,6 +3,7 @@
 import random
 
 from shapefree.errors import TooLong
+from shapefree.formed import form_of
 from shapefree.plain import plain
 
 X = ("name", "x")
@@ -289,3 +290,85 @@ RUNS = (
     ("inputs x\ntell (let y (loop #i 2 y x (s y)) (loop #i 2 x y (mix x y)))", 8),
     ("inputs s\ndef s s = (s s)\ntell (call s (s s))", 3),
 )
+
+
+class Pairs:
+    """Givens and a question laid together beside the package: nodes are known by what they are written out."""
+
+    def __init__(self, givens, question):
+        self.pairs = [tuple(map(form_written_out, pair)) for pair in givens + (question,)]
+        self.terms = []
+        for one in [one for pair in givens + (question,) for one in pair]:
+            for k in range(len(one[0])):
+                term = form_written_out((one[0], k))
+                if term not in self.terms:
+                    self.terms.append(term)
+        self.label = {term: k for k, term in enumerate(self.terms)}
+
+    def join(self, one, other):
+        old, new = self.label[one], self.label[other]
+        self.label = {term: new if label == old else label for term, label in self.label.items()}
+
+    def is_joined(self, one, other):
+        return self.label[one] == self.label[other]
+
+    def is_like(self, one, other):
+        return one[0] == other[0] == "do" and one[1] == other[1] and all(map(self.is_joined, one[2], other[2]))
+
+    def is_asked_joined(self):
+        return self.is_joined(*self.pairs[-1])
+
+    def holds(self, paper):
+        for row in paper:
+            if row[0] == "given":
+                if row[1] not in range(len(self.pairs) - 1):
+                    return False
+                self.join(*self.pairs[row[1]])
+            else:
+                if row[1] not in range(len(self.terms)) or row[2] not in range(len(self.terms)):
+                    return False
+                one, other = self.terms[row[1]], self.terms[row[2]]
+                if not self.is_like(one, other):
+                    return False
+                self.join(one, other)
+        return self.is_asked_joined()
+
+    def follows(self):
+        """Whether the question's two are joined when all is joined that can be."""
+        for pair in self.pairs[:-1]:
+            self.join(*pair)
+        labels = None
+        while labels != self.label:
+            labels = self.label
+            for one in self.terms:
+                for other in self.terms:
+                    if self.is_like(one, other) and not self.is_joined(one, other):
+                        self.join(one, other)
+        return self.is_asked_joined()
+
+
+def chain(many):
+    """The form of many s's, done on the input 0."""
+    return form(*[IN] + [s(k) for k in range(many)])
+
+
+def made_pairs(seed, many):
+    """So many (givens, question) of small forms over SHAPE with two inputs, some of which follow."""
+    chance = random.Random(seed)
+    leaves = (IN, IN_ONE, ("fixed", "A"), BEE)
+
+    def term(depth):
+        if not depth or not chance.randrange(4):
+            return chance.choice(leaves[:chance.randrange(1, 5)])
+        if chance.randrange(2):
+            return s(term(depth - 1))
+        return mix(term(depth - 1), term(depth - 1))
+
+    told = []
+    while len(told) < many:
+        pool = [term(chance.randrange(3)) for k in range(6)]
+        pool += [s(one) for one in pool[:3]] + [mix(one, pool[0]) for one in pool[3:]]
+        forms = [form_of(one) for one in pool]
+        givens = tuple((chance.choice(forms), chance.choice(forms)) for k in range(chance.randrange(7)))
+        told.append((givens, (chance.choice(forms), chance.choice(forms))))
+    return told
