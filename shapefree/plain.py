@@ -41,10 +41,15 @@ def depth(form):
 
 def deeds(form):
     """How many do's there are when all is written out."""
+    return deeds_by_node(form[0])[form[1]]
+
+
+def deeds_by_node(nodes):
+    """How many do's each node has when all is written out; a node's parts stand ahead of it."""
     told = []
-    for node in form[0]:
+    for node in nodes:
         told.append(1 + sum([told[part] for part in node[2]]) if node[0] == "do" else 0)
-    return told[form[1]]
+    return told
 
 
 def is_plain_form(shape, inputs, thing):

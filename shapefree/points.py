@@ -1,7 +1,7 @@
 """Points, pairs of a world and inputs, and rows with a thing of each."""
 
 from shapefree.plain import value
-from shapefree.worlds import done, fixed_in
+from shapefree.worlds import fixed_in, table_in
 
 
 def row_of(shape, points, form):
@@ -11,10 +11,20 @@ def row_of(shape, points, form):
 
 def done_on(shape, points, d, rows):
     """The row that a deed, done on rows place by place, leads to."""
-    told = []
-    for k, point in enumerate(points):
-        told.append(done(shape, point[0], d, [row[k] for row in rows]))
+    told = deed_tables(shape, points, d)
+    for row in rows:
+        told = led_by(told, row)
     return tuple(told)
+
+
+def deed_tables(shape, points, d):
+    """The table of a deed at each point."""
+    return [table_in(shape, point[0], d) for point in points]
+
+
+def led_by(tables, row):
+    """What each table has for the row's thing at its place: a thing, or a table for the next row."""
+    return [table[thing] for table, thing in zip(tables, row)]
 
 
 def own_rows(shape, points):

@@ -37,9 +37,14 @@ def is_table(thing, many, n):
     return all([are_things(row, n, n) for row in thing])
 
 
+def table_in(shape, world, d):
+    """The table of a deed in a world."""
+    return world[2][[deed[0] for deed in shape[1]].index(d)]
+
+
 def done(shape, world, d, things):
     """What a deed, done on things, leads to in a world."""
-    told = world[2][[deed[0] for deed in shape[1]].index(d)]
+    told = table_in(shape, world, d)
     for thing in things:
         told = told[thing]
     return told
@@ -48,3 +53,11 @@ def done(shape, world, d, things):
 def fixed_in(shape, world, c):
     """The thing that a fixed thing is in a world."""
     return world[1][shape[0].index(c)]
+
+
+def longer_by_one(tuples, n):
+    """Each tuple with each of n things behind it, sorted where the tuples are."""
+    longer = []
+    for things in tuples:
+        longer.extend([things + (thing,) for thing in range(n)])
+    return longer
