@@ -61,3 +61,17 @@ def longer_by_one(tuples, n):
     for things in tuples:
         longer.extend([things + (thing,) for thing in range(n)])
     return longer
+
+
+def world_from(shape, world, chosen, numbers):
+    """The world of things chosen from another one, in order; numbers tell for each thing that comes which one it is."""
+    things = [numbers[thing] for thing in world[1]]
+    tables = [table_from(deed[1], table, chosen, numbers) for deed, table in zip(shape[1], world[2])]
+    return (len(chosen), tuple(things), tuple(tables))
+
+
+def table_from(places, table, chosen, numbers):
+    """A table of so many places for the chosen things; without places it is the thing that comes."""
+    if places == 0:
+        return numbers[table]
+    return tuple([table_from(places - 1, table[thing], chosen, numbers) for thing in chosen])

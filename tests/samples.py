@@ -169,11 +169,14 @@ def told_by(program, inputs, fixed, do):
     return go(program[2], dict(zip(program[0], inputs)), {}), len(turns)
 
 
-def run_by(program, world, inputs):
-    """What run should tell in a world of SHAPE."""
+def run_by(program, world, inputs, shape=SHAPE):
+    """What run should tell in a world of a shape."""
     def do(d, things):
-        return world[2][0][things[0]] if d == "s" else world[2][1][things[0]][things[1]]
-    return told_by(program, inputs, lambda c: world[1][SHAPE[0].index(c)], do)
+        entry = world[2][[name for name, places in shape[1]].index(d)]
+        for thing in things:
+            entry = entry[thing]
+        return entry
+    return told_by(program, inputs, lambda c: world[1][shape[0].index(c)], do)
 
 
 def written_out(program):
@@ -191,10 +194,14 @@ def form_written_out(form):
 
 
 class Maker:
-    """Puts programs of SHAPE together that are let by, the same ones from the same seed on."""
+    """Puts programs of a shape together that are let by, the same ones from the same seed on.
 
-    def __init__(self, seed):
+    The shape has a fixed thing and a deed at least.
+    """
+
+    def __init__(self, seed, shape=SHAPE):
         self.chance = random.Random(seed)
+        self.shape = shape
 
     def number(self, counts, depth):
         kind = self.chance.choice(("num", "num", "count", "op"))
@@ -213,7 +220,7 @@ class Maker:
                     for name, sort in params]
             return ("call", f, tuple(args))
         if kind == "do":
-            d, places = self.chance.choice(SHAPE[1])
+            d, places = self.chance.choice(self.shape[1])
             return ("do", d, tuple(self.term(things, counts, defs, depth - 1) for k in range(places)))
         if kind == "pick":
             many = self.chance.randrange(1, 4)
@@ -229,7 +236,7 @@ class Maker:
             return ("loop", i, self.number(counts, 1), x, a, b)
         if things and self.chance.randrange(4):
             return ("name", self.chance.choice(things))
-        return ("fixed", self.chance.choice(SHAPE[0]))
+        return ("fixed", self.chance.choice(self.shape[0]))
 
     def program(self, inputs, depth):
         defs = []
@@ -243,14 +250,14 @@ class Maker:
         return (tuple(names), tuple(defs), self.term(names, [], defs, depth))
 
 
-def made_programs(seed, many, most, depth=4):
+def made_programs(seed, many, most, depth=4, shape=SHAPE):
     """So many programs with none to three inputs, that take at most so many turns, of texts not all too short."""
-    maker = Maker(seed)
+    maker = Maker(seed, shape)
     told = []
     while len(told) < many:
         program = maker.program(len(told) % 4, depth)
         try:
-            if plain(SHAPE, program, most)[1]:
+            if plain(shape, program, most)[1]:
                 told.append(program)
         except TooLong:
             continue

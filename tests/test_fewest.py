@@ -16,6 +16,15 @@ UNLIKE = ((), (("s", 2),))
 UNLIKE_POINTS = (((4, (), (((0, 3, 0, 0), (2, 2, 3, 3), (3, 1, 0, 2), (3, 1, 1, 3)),)), (1,)),
                  ((4, (), (((1, 1, 2, 0), (1, 1, 0, 3), (2, 2, 1, 0), (0, 2, 3, 3)),)), (2,)))
 
+# Points at which fewer deeds of one row let others have fewer, those that stand ahead in the closing too.
+AGAIN = (
+    (((3, (), (((2, 0, 1), (2, 0, 2), (1, 1, 2)),)), (1,)), ((2, (), (((1, 0), (1, 1)),)), (0,))),
+    (((2, (), (((1, 0), (1, 1)),)), (0,)), ((3, (), (((2, 0, 0), (0, 0, 0), (2, 0, 1)),)), (0,))),
+    (((4, (), (((1, 1, 1, 0), (0, 2, 1, 3), (1, 3, 0, 1), (0, 2, 1, 3)),)), (1,)), ((2, (), (((1, 0), (1, 0)),)), (1,))),
+    (((3, (), (((2, 0, 2), (1, 1, 2), (1, 1, 0)),)), (0,)),
+     ((4, (), (((1, 0, 0, 3), (2, 3, 2, 0), (3, 3, 3, 3), (3, 2, 2, 3)),)), (1,))),
+)
+
 
 def terms_by_deeds(shape, inputs, many):
     """A list of lists: all plain terms of no deeds, of one, and so on up to many."""
@@ -117,6 +126,14 @@ class TestFewest(unittest.TestCase):
         self.assertGreater(deeds(shallow), 5)
         self.assertEqual(depth(fewest_of(UNLIKE, UNLIKE_POINTS, (0, 0), 30)[2]), 4)
         self.assertEqual(rows_by_deeds(UNLIKE, UNLIKE_POINTS, rows)[(0, 0)], 5)
+
+    def test_fewer_again_and_again(self):
+        for points in AGAIN:
+            rows = [entry[0] for entry in closing(UNLIKE, points, 30)]
+            least = rows_by_deeds(UNLIKE, points, rows)
+            self.assertEqual(fewest(UNLIKE, points, 30), [least[row] for row in rows])
+            for row in rows:
+                self.assertEqual(self.tell(UNLIKE, points, row), least[row])
 
     def test_no_program_has_fewer(self):
         points = ((WORLD, (0, 1)), (PAIR, (1, 0)), (ONE, (0, 0)))
